@@ -1,0 +1,1 @@
+"""Signforms: one letter, written in several ways."""
