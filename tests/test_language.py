@@ -70,6 +70,22 @@ def bound_names(tree):
     return names
 
 
+def inner_names(tree):
+    """The parameters and locals of a file's functions."""
+    names = set()
+    for node in ast.walk(tree):
+        if isinstance(node, (ast.FunctionDef, ast.Lambda)):
+            inner = list(ast.walk(node))
+            names.update(part.arg for part in inner if isinstance(part, ast.arg))
+            names.update(part.id for part in inner if isinstance(part, ast.Name) and isinstance(part.ctx, ast.Store))
+    return names
+
+
+def drawn_names(tree):
+    """The classes and imports of a file."""
+    return {node.name for node in ast.walk(tree) if isinstance(node, (ast.ClassDef, ast.alias))}
+
+
 def top_names(tree):
     """The names that a file itself defines at its top."""
     names = [node.name for node in tree.body if isinstance(node, (ast.FunctionDef, ast.ClassDef))]
@@ -169,6 +185,7 @@ class Language(unittest.TestCase):
             self.none_of("L8", [(path, n) for n in read if n.id not in bound | OWN_NAMES])
             top = top_names(tree)
             self.assertEqual(len(top), len(set(top)), f"L15 {path.name}")
+            self.assertEqual(inner_names(tree) & drawn_names(tree), set(), f"L15 {path.name}")
 
     def test_classes(self):
         methods = set()

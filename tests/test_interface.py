@@ -1,0 +1,68 @@
+"""The names and arguments of the interface, as the document tells them."""
+
+import importlib
+import inspect
+import unittest
+
+FUNCTIONS = {
+    "reading": {"read": ["writing"], "shown": ["table"]},
+    "opening": {
+        "full": ["table", "sign"],
+        "once": ["table", "text"],
+        "opened": ["table", "text"],
+        "depth": ["table", "text"],
+        "sources": ["table", "text"],
+    },
+    "ordering": {
+        "falls": ["table", "text"],
+        "ordered": ["table", "text"],
+        "exchanges": ["table", "text"],
+        "apart": ["table", "text"],
+    },
+    "joining": {
+        "together": ["table", "text"],
+        "formed": ["table", "sign"],
+        "form_of": ["table", "text", "form"],
+    },
+    "onestep": {"done": ["table", "text", "step"], "back": ["table", "text", "step"]},
+}
+TABLE_METHODS = {
+    "__init__": ["marks", "rows", "shuts"],
+    "rank": ["sign"],
+    "row": ["sign"],
+    "is_shut": ["sign"],
+    "pair": ["one", "other"],
+    "marks": [],
+    "rows": [],
+    "shuts": [],
+}
+
+
+def arguments(thing):
+    found = inspect.signature(thing).parameters.values()
+    return [each.name for each in found], [each.default for each in found]
+
+
+class Interface(unittest.TestCase):
+    def check(self, thing, expected):
+        names, defaults = arguments(thing)
+        self.assertEqual(names, expected)
+        self.assertEqual(defaults, [inspect.Parameter.empty] * len(expected))
+
+    def test_functions(self):
+        for module, functions in FUNCTIONS.items():
+            loaded = importlib.import_module("signforms." + module)
+            for name, expected in functions.items():
+                with self.subTest(module, name=name):
+                    self.assertTrue(inspect.isfunction(getattr(loaded, name)))
+                    self.check(getattr(loaded, name), expected)
+
+    def test_tables(self):
+        table = importlib.import_module("signforms.tables").Table
+        for name, expected in TABLE_METHODS.items():
+            with self.subTest(name):
+                self.check(getattr(table, name), ["self", *expected])
+
+
+if __name__ == "__main__":
+    unittest.main()
