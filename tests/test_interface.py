@@ -25,6 +25,15 @@ FUNCTIONS = {
         "form_of": ["table", "text", "form"],
     },
     "onestep": {"done": ["table", "text", "step"], "back": ["table", "text", "step"]},
+    "likeness": {"alike": ["table", "one", "other"], "steps": ["table", "one", "other"]},
+    "looks": {
+        "hanger": ["table", "sign"],
+        "stop": ["table", "sign"],
+        "opens": ["table", "sign"],
+        "quick": ["table", "text", "form"],
+    },
+    "borders": {"joined": ["table", "one", "other", "form"]},
+    "rules": {"read_rules": ["writing"]},
 }
 TABLE_METHODS = {
     "__init__": ["marks", "rows", "shuts"],
@@ -36,6 +45,7 @@ TABLE_METHODS = {
     "rows": [],
     "shuts": [],
 }
+RULES_METHODS = {"kind": ["sign"], "reach": [], "keeps": ["left", "right"]}
 
 
 def arguments(thing):
@@ -57,11 +67,16 @@ class Interface(unittest.TestCase):
                     self.assertTrue(inspect.isfunction(getattr(loaded, name)))
                     self.check(getattr(loaded, name), expected)
 
+    def check_methods(self, kept, methods):
+        for name, expected in methods.items():
+            with self.subTest(kept.__name__, name=name):
+                self.check(getattr(kept, name), ["self", *expected])
+
     def test_tables(self):
-        table = importlib.import_module("signforms.tables").Table
-        for name, expected in TABLE_METHODS.items():
-            with self.subTest(name):
-                self.check(getattr(table, name), ["self", *expected])
+        self.check_methods(importlib.import_module("signforms.tables").Table, TABLE_METHODS)
+
+    def test_rules(self):
+        self.check_methods(importlib.import_module("signforms.rules").Rules, RULES_METHODS)
 
 
 if __name__ == "__main__":

@@ -1,12 +1,16 @@
 """[2]: what is handed over is only looked at, what is told belongs to whoever asked, like questions have like answers.
 
-Of all that is told of a table and a text: opening, ordering, joining, single steps.
+Of all that is told of a table and a text, or of two: opening, ordering, joining, single steps, likeness, looks, borders.
 """
 
+import itertools
 import unittest
 
-from signforms.errors import NoStep
+from signforms.borders import joined
+from signforms.errors import FormError, NoStep
 from signforms.joining import form_of, formed, together
+from signforms.likeness import alike, steps
+from signforms.looks import hanger, opens, quick, stop
 from signforms.onestep import back, done
 from signforms.opening import depth, full, once, opened, sources
 from signforms.ordering import apart, exchanges, falls, ordered
@@ -28,6 +32,18 @@ LISTS = {
 OTHERS = {
     "depth": depth,
     "formed": lambda table, text: [formed(table, sign) for sign in text],
+    "hanger": lambda table, text: [hanger(table, sign) for sign in text],
+    "stop": lambda table, text: [stop(table, sign) for sign in text],
+    "opens": lambda table, text: [opens(table, sign) for sign in text],
+    "quick apart": lambda table, text: quick(table, text, "apart"),
+    "quick together": lambda table, text: quick(table, text, "together"),
+}
+# Of two texts; each of these may be refused.
+OF_TWO = {
+    "alike": alike,
+    "steps": steps,
+    "joined apart": lambda table, one, other: joined(table, one, other, "apart"),
+    "joined together": lambda table, one, other: joined(table, one, other, "together"),
 }
 STEPS = [("open", 0), ("close", 0, 20), ("close", 1, 30), ("swap", 1), ("swap", 2), ("open", 9), ("swap", -1)]
 TEXTS = [[], [1], [12, 10], [1, 12, 10], [21, 11, 1, 12, 11], [40, 30, 12, 10, 2], [1, 10, 12], [10, 12, 10, 1, 77]]
@@ -65,6 +81,22 @@ def copied(told):
 
 def lists_of(table):
     return table.marks(), table.rows(), table.shuts()
+
+
+def told_of_two(table, one, other):
+    told = {}
+    for name, asked in OF_TWO.items():
+        try:
+            told[name] = asked(table, one, other)
+        except FormError as refusal:
+            told[name] = (type(refusal), vars(refusal))
+    return told
+
+
+def lists_told(told):
+    """The lists among what is told of two texts: the steps, and the texts that stand first in what is joined."""
+    found = [value[0] if isinstance(value, tuple) else value for value in told.values()]
+    return [value for value in found if isinstance(value, list)]
 
 
 class HandedOver(unittest.TestCase):
@@ -179,6 +211,75 @@ class AskedAgain(unittest.TestCase):
         for time in range(50):
             self.assertEqual(apart(one_table(), [21]), [1, 10, 12])
             self.assertEqual(apart(other_table(), [21]), [2, 12, 11])
+
+
+class OfTwoTexts(unittest.TestCase):
+    """Likeness and borders, of every two of the texts."""
+
+    def test_texts_and_tables_stay_as_they_were(self):
+        table = one_table()
+        for one, other in itertools.product(TEXTS, repeat=2):
+            handed = list(one), list(other)
+            told_of_two(table, *handed)
+            self.assertEqual(handed, (one, other))
+        self.assertEqual(lists_of(table), lists_of(one_table()))
+
+    def test_texts_changed_afterwards_change_nothing_told(self):
+        for one, other in itertools.product(TEXTS, repeat=2):
+            handed = list(one), list(other)
+            told = told_of_two(one_table(), *handed)
+            for text in handed:
+                text.extend([5, 20])
+                text.reverse()
+            self.assertEqual(told, told_of_two(one_table(), one, other))
+
+    def test_told_lists_changed_change_nothing(self):
+        changes = (list.clear, list.reverse, lambda told: told.extend([20, 5, 10]))
+        for change, one, other in itertools.product(changes, TEXTS, TEXTS):
+            table = one_table()
+            handed = list(one), list(other)
+            for found in lists_told(told_of_two(table, *handed)):
+                change(found)
+            self.assertEqual(handed, (one, other))
+            self.assertEqual(told_of_two(table, *handed), told_of_two(one_table(), one, other))
+            self.assertEqual(lists_of(table), lists_of(one_table()))
+
+    def test_what_is_told_is_not_what_was_handed_in(self):
+        """Also where one of the two has no signs, or both are one list."""
+        table = one_table()
+        for one, other in ([[], [2]], [[2], []], [[], []], [[21], [21]], [[2, 12], [1]]):
+            for first, second in ((one, other), (one, one)):
+                for found in lists_told(told_of_two(table, first, second)):
+                    self.assertIsNot(found, first)
+                    self.assertIsNot(found, second)
+
+    def test_one_list_handed_in_twice(self):
+        for text in TEXTS:
+            handed = list(text)
+            told = told_of_two(one_table(), handed, handed)
+            self.assertEqual(handed, text)
+            self.assertEqual(told, told_of_two(one_table(), list(text), list(text)))
+
+    def test_two_tables_in_turn(self):
+        one, other = one_table(), other_table()
+        for first, second in itertools.product(TEXTS, repeat=2):
+            for time in range(2):
+                self.assertEqual(told_of_two(one, first, second), told_of_two(one_table(), first, second))
+                self.assertEqual(told_of_two(other, first, second), told_of_two(other_table(), first, second))
+        self.assertEqual((alike(one, [20], [1, 10]), alike(other, [20], [1, 10])), (True, False))
+        self.assertEqual((hanger(one, 12), hanger(other, 12)), (True, False))
+        self.assertEqual((opens(one, 40), opens(other, 40)), (True, True))
+        self.assertEqual((opens(one, 1), opens(other, 1)), (True, False))
+        self.assertEqual(joined(one, [1], [10], "together"), ([20], 0, 1))
+        self.assertEqual(joined(other, [2], [10], "together"), ([2, 10], 0, 1))
+
+    def test_a_text_changed_is_another_text(self):
+        table = one_table()
+        one, other = [2, 1], [10, 2]
+        self.assertEqual(joined(table, one, other, "together"), ([2, 20, 2], 1, 1))
+        one.append(2)
+        other[0] = 77
+        self.assertEqual(joined(table, one, other, "together"), ([2, 1, 2, 77, 2], 3, 0))
 
 
 if __name__ == "__main__":
