@@ -18,7 +18,9 @@ def opens(table, sign):
 
 
 def opening_places(table, text):
-    return [place for place, sign in enumerate(text) if opens(table, sign)]
+    # Each sign is looked at once, however often it stands in the text: hangers are told by the whole table.
+    opening = dict([(sign, opens(table, sign)) for sign in sorted(set(text))])
+    return [place for place, sign in enumerate(text) if opening[sign]]
 
 
 def quick(table, text, form):

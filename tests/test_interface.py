@@ -34,6 +34,9 @@ FUNCTIONS = {
     },
     "borders": {"joined": ["table", "one", "other", "form"]},
     "rules": {"read_rules": ["writing"]},
+    "pieces": {"bodies": ["table", "text", "form"], "pieces": ["table", "rules", "text", "form"]},
+    "search": {"places": ["table", "text", "wanted"], "changed": ["table", "text", "wanted", "by"]},
+    "tidy": {"lost": ["table"], "idle": ["table"], "least": ["table"]},
 }
 TABLE_METHODS = {
     "__init__": ["marks", "rows", "shuts"],
@@ -46,6 +49,7 @@ TABLE_METHODS = {
     "shuts": [],
 }
 RULES_METHODS = {"kind": ["sign"], "reach": [], "keeps": ["left", "right"]}
+KEPT_METHODS = {"text": [], "doors": [], "put": ["at", "text"], "take": ["low", "high"], "undo": []}
 
 
 def arguments(thing):
@@ -77,6 +81,13 @@ class Interface(unittest.TestCase):
 
     def test_rules(self):
         self.check_methods(importlib.import_module("signforms.rules").Rules, RULES_METHODS)
+
+    def test_kept_texts(self):
+        kept = importlib.import_module("signforms.kept").Kept
+        self.check_methods(kept, KEPT_METHODS)
+        names, defaults = arguments(kept)
+        self.assertEqual(names, ["table", "text"])
+        self.assertEqual(defaults, [inspect.Parameter.empty, None])
 
 
 if __name__ == "__main__":

@@ -1,8 +1,10 @@
 """[2]: what is handed over is only looked at, what is told belongs to whoever asked, like questions have like answers.
 
-Of all that is told of a table and a text, or of two: opening, ordering, joining, single steps, likeness, looks, borders.
+Of all that is told of a table and a text, or of two: opening, ordering, joining, single steps, likeness, looks, borders,
+pieces, search. What is told of a table alone is asked in test_tidy, kept texts in test_kept, rules in test_rules.
 """
 
+import copy
 import itertools
 import unittest
 
@@ -14,7 +16,13 @@ from signforms.looks import hanger, opens, quick, stop
 from signforms.onestep import back, done
 from signforms.opening import depth, full, once, opened, sources
 from signforms.ordering import apart, exchanges, falls, ordered
+from signforms.pieces import bodies, pieces
+from signforms.rules import read_rules
+from signforms.search import changed, places
 from signforms.tables import Table
+
+# One for all questions, so that what one of them would leave there is seen by the next.
+RULES = read_rules("kind a 1\nkind b 2 77\nkeep a | b\nkeep any b | any\n")
 
 LISTS = {
     "full": lambda table, text: full(table, text[0] if text else 21),
@@ -28,6 +36,10 @@ LISTS = {
     "together": together,
     "form apart": lambda table, text: form_of(table, text, "apart"),
     "form together": lambda table, text: form_of(table, text, "together"),
+    "bodies apart": lambda table, text: bodies(table, text, "apart"),
+    "bodies together": lambda table, text: bodies(table, text, "together"),
+    "pieces apart": lambda table, text: pieces(table, RULES, text, "apart"),
+    "pieces together": lambda table, text: pieces(table, RULES, text, "together"),
 }
 OTHERS = {
     "depth": depth,
@@ -44,6 +56,10 @@ OF_TWO = {
     "steps": steps,
     "joined apart": lambda table, one, other: joined(table, one, other, "apart"),
     "joined together": lambda table, one, other: joined(table, one, other, "together"),
+    "places": places,
+    "changed": lambda table, one, other: changed(table, one, other, [12, 2]),
+    "changed by": lambda table, one, other: changed(table, [1, 12, 2, 1], one, other),
+    "changed nothing": lambda table, one, other: changed(table, one, [5, 5, 5], other),
 }
 STEPS = [("open", 0), ("close", 0, 20), ("close", 1, 30), ("swap", 1), ("swap", 2), ("open", 9), ("swap", -1)]
 TEXTS = [[], [1], [12, 10], [1, 12, 10], [21, 11, 1, 12, 11], [40, 30, 12, 10, 2], [1, 10, 12], [10, 12, 10, 1, 77]]
@@ -76,7 +92,14 @@ def all_told(table, text):
 
 
 def copied(told):
-    return {name: list(value) if isinstance(value, list) else value for name, value in told.items()}
+    return copy.deepcopy(told)
+
+
+def change_all(told, change):
+    """A told list changed, and ahead of that each list within it."""
+    for inner in [each for each in told if isinstance(each, list)]:
+        change(inner)
+    change(told)
 
 
 def lists_of(table):
@@ -94,7 +117,7 @@ def told_of_two(table, one, other):
 
 
 def lists_told(told):
-    """The lists among what is told of two texts: the steps, and the texts that stand first in what is joined."""
+    """The lists among what is told of two texts: steps, finds, texts, and those that stand first in what is joined."""
     found = [value[0] if isinstance(value, tuple) else value for value in told.values()]
     return [value for value in found if isinstance(value, list)]
 
@@ -148,7 +171,7 @@ class Told(unittest.TestCase):
             expected = copied(all_told(one_table(), list(text)))
             for name, asked in LISTS.items():
                 with self.subTest(name, text=text):
-                    change(asked(table, handed))
+                    change_all(asked(table, handed), change)
                     self.assertEqual(handed, text)
                     self.assertEqual(all_told(table, handed), expected)
             for step in STEPS:
@@ -207,6 +230,14 @@ class AskedAgain(unittest.TestCase):
         self.assertEqual((together(one, [21]), together(other, [21])), ([21], [2, 12, 11]))
         self.assertEqual((ordered(one, [10, 11]), ordered(other, [10, 11])), ([10, 11], [11, 10]))
 
+    def test_two_rules_in_turn(self):
+        table = one_table()
+        one, other = read_rules("kind a 1\nkeep a | other"), read_rules("kind a 2 1\nkeep other | a\nkeep a a |")
+        text = [1, 2, 77, 1, 12, 2]
+        for time in range(3):
+            self.assertEqual(pieces(table, one, text, "together"), [[1, 2], [77], [1, 12, 2]])
+            self.assertEqual(pieces(table, other, text, "together"), [[1], [2, 77, 1, 12], [2]])
+
     def test_tables_made_and_gone(self):
         for time in range(50):
             self.assertEqual(apart(one_table(), [21]), [1, 10, 12])
@@ -214,7 +245,7 @@ class AskedAgain(unittest.TestCase):
 
 
 class OfTwoTexts(unittest.TestCase):
-    """Likeness and borders, of every two of the texts."""
+    """Likeness, borders and search, of every two of the texts."""
 
     def test_texts_and_tables_stay_as_they_were(self):
         table = one_table()
